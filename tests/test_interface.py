@@ -1,0 +1,47 @@
+"""Points 2 and 9, and the interface: where each name stands, which arguments it has, which may be left out."""
+
+import importlib
+import inspect
+import unittest
+
+FUNCTIONS = {
+    "kinds": {
+        "is_word": "(thing)", "is_address": "(thing)", "is_value": "(thing)", "is_letter": "(thing)",
+    },
+    "sums": {
+        "is_sum": "(thing)", "bound": "(bindings, *, names, values)",
+        "worth": "(amount, *, bindings=(), address=('at', 0, 0))",
+    },
+    "trees": {
+        "is_act": "(thing)", "is_next": "(thing)", "is_arm": "(thing)", "is_late": "(thing)",
+        "is_behaviour": "(thing)", "namings": "(behaviour)",
+    },
+    "looks": {"is_code": "(thing)", "lets_code": "(thing)", "behaviour_at": "(code, name)"},
+    "codetexts": {"shown_code": "(code)"},
+    "codereader": {"read_code": "(text)"},
+    "sumrows": {
+        "sum_rows": "(amount)", "run_sums": "(rows, *, bindings=(), address=('at', 0, 0), pile=())",
+    },
+}
+
+
+class Interface(unittest.TestCase):
+    def test_arguments_are_as_listed(self):
+        for file, functions in FUNCTIONS.items():
+            module = importlib.import_module(f"letterfolk.{file}")
+            for name, arguments in functions.items():
+                with self.subTest(file=file, name=name):
+                    self.assertEqual(str(inspect.signature(getattr(module, name))), arguments)
+
+    def test_functions_are_defined_where_they_are_listed(self):
+        for file, functions in FUNCTIONS.items():
+            module = importlib.import_module(f"letterfolk.{file}")
+            for name in functions:
+                with self.subTest(file=file, name=name):
+                    self.assertTrue(inspect.isfunction(getattr(module, name)))
+                    self.assertEqual(getattr(module, name).__module__, f"letterfolk.{file}")
+
+    def test_nobody(self):
+        sums = importlib.import_module("letterfolk.sums")
+        self.assertEqual(sums.NOBODY, ("at", 0, 0))
+        self.assertIs(type(sums.NOBODY), tuple)
