@@ -195,6 +195,10 @@ class Maker:
             return ("of", self.word())
         return ("self",) if sort == 5 else ("is", self.value())
 
+    def target(self):
+        """A sum that is more often worth an address."""
+        return self.one_of((("is", self.address()), ("self",), ("of", self.word()), self.amount(3)))
+
     def amounts(self, many=None):
         many = self.chance.randrange(4) if many is None else many
         return tuple([self.amount(2) for _ in range(many)])
@@ -205,16 +209,16 @@ class Maker:
     def act(self, heads):
         word = self.one_of(("send", "make", "make", "link", "unlink", "watch", "trap", "name", "name", "ask", "ask", "tell"))
         if word == "send":
-            return ("send", self.amount(2), self.word(), self.amounts())
+            return ("send", self.target(), self.word(), self.amounts())
         if word == "make":
             behaviour = self.one_of(sorted(heads))
             how = self.one_of(("free", "linked", "watched"))
             return ("make", self.word(), behaviour, self.amounts(heads[behaviour]), how)
         if word == "name":
-            return ("name", self.word(), self.amount(3))
+            return ("name", self.word(), self.target())
         if word == "ask":
             return ("ask", self.word(), self.word())
-        return (word, self.amount(3))
+        return (word, self.target())
 
     def acts(self, heads):
         return tuple([self.act(heads) for _ in range(self.chance.randrange(6))])

@@ -22,6 +22,25 @@ FUNCTIONS = {
     "sumrows": {
         "sum_rows": "(amount)", "run_sums": "(rows, *, bindings=(), address=('at', 0, 0), pile=())",
     },
+    "coderows": {"made": "(behaviour)", "made_code": "(code)"},
+    "rowsback": {"unmade": "(rows)"},
+    "hangs": {"hang_on": "(code, name)"},
+    "edits": {"code_changes": "(one, other)", "made_again": "(one, other, *, rows)"},
+    "fitting": {
+        "fitting": "(behaviour, values, letter, *, address=('at', 0, 0))",
+        "waits_of": "(behaviour, values, *, address=('at', 0, 0))",
+    },
+    "hands": {"whom": "(words, word)"},
+    "treetaking": {
+        "taken": "(behaviour, state, letter, *, address, around)",
+        "late_taken": "(behaviour, state, *, address, around)",
+    },
+    "rowtaking": {
+        "row_fitting": "(rows, values, letter, *, address=('at', 0, 0))",
+        "row_waits": "(rows, values, *, address=('at', 0, 0))",
+        "row_taken": "(rows, state, letter, *, address, around)",
+        "row_late": "(rows, state, *, address, around)",
+    },
 }
 
 
