@@ -6,6 +6,11 @@ def is_number(thing):
     return isinstance(thing, int) and not isinstance(thing, bool)
 
 
+def is_count(thing):
+    """Whether the thing is a number from 0 on."""
+    return is_number(thing) and thing >= 0
+
+
 def is_above_nothing(thing):
     """Whether the thing is a number above 0."""
     return is_number(thing) and thing > 0
@@ -22,7 +27,7 @@ def is_address(thing):
     """Whether the thing is ("at", house, n), both from 0 on."""
     if not isinstance(thing, tuple) or len(thing) != 3 or thing[0] != "at":
         return False
-    return all([is_number(part) and part >= 0 for part in thing[1:]])
+    return is_count(thing[1]) and is_count(thing[2])
 
 
 def is_value(thing):
@@ -30,8 +35,16 @@ def is_value(thing):
     return is_number(thing) or is_word(thing) or is_address(thing)
 
 
+def are_values(thing):
+    """Whether the thing is a tuple of values."""
+    return isinstance(thing, tuple) and all([is_value(value) for value in thing])
+
+
+def is_pair(thing):
+    """Whether the thing is a tuple of two."""
+    return isinstance(thing, tuple) and len(thing) == 2
+
+
 def is_letter(thing):
     """Whether the thing is (tag, values)."""
-    if not isinstance(thing, tuple) or len(thing) != 2 or not is_word(thing[0]):
-        return False
-    return isinstance(thing[1], tuple) and all([is_value(value) for value in thing[1]])
+    return is_pair(thing) and is_word(thing[0]) and are_values(thing[1])

@@ -20,6 +20,13 @@ def is_sum(thing):
     return word == "of" and is_word(thing[1])
 
 
+def has_self(amount):
+    """Whether ("self",) stands in the sum, however deep."""
+    if amount[0] in PAIRINGS:
+        return has_self(amount[1]) or has_self(amount[2])
+    return amount[0] == "self"
+
+
 def bound(bindings, *, names, values):
     """The bindings in which each of the names has its value, the later one of a name that stands twice."""
     table = dict(bindings)

@@ -7,7 +7,7 @@ OF_ONE_SUM = ("link", "unlink", "watch", "trap", "tell")
 HOWS = ("free", "linked", "watched")
 
 
-def _are_sums(thing):
+def are_sums(thing):
     """Whether the thing is a tuple of sums."""
     return isinstance(thing, tuple) and all([is_sum(amount) for amount in thing])
 
@@ -25,11 +25,11 @@ def _are_names(thing):
 
 
 def _is_send(thing):
-    return is_sum(thing[1]) and is_word(thing[2]) and _are_sums(thing[3])
+    return is_sum(thing[1]) and is_word(thing[2]) and are_sums(thing[3])
 
 
 def _is_make(thing):
-    return is_word(thing[1]) and is_word(thing[2]) and _are_sums(thing[3]) and thing[4] in HOWS
+    return is_word(thing[1]) and is_word(thing[2]) and are_sums(thing[3]) and thing[4] in HOWS
 
 
 def is_act(thing):
@@ -54,7 +54,7 @@ def is_next(thing):
         return False
     if len(thing) == 2:
         return thing[0] == "end" and is_sum(thing[1])
-    return thing[0] == "go" and is_word(thing[1]) and _are_sums(thing[2])
+    return thing[0] == "go" and is_word(thing[1]) and are_sums(thing[2])
 
 
 def is_arm(thing):

@@ -41,6 +41,31 @@ FUNCTIONS = {
         "row_taken": "(rows, state, letter, *, address, around)",
         "row_late": "(rows, state, *, address, around)",
     },
+    "mailboxes": {"look_through": "(library, state, mailbox, *, address)"},
+    "houses": {
+        "void_house": "(h, *, clock=0, made=0, loaded=(0,))", "life_of": "(house, number)", "around_of": "(house)",
+    },
+    "editions": {"is_library": "(thing)", "load": "(library, loaded, edition)"},
+    "leading": {
+        "state_led": "(library, state, *, to)", "letter_led": "(library, letter, *, edition, to)",
+        "looked": "(library, letter, *, edition, own)",
+    },
+    "moving": {"moved": "(library, loaded, state)"},
+    "keepers": {"is_plan": "(library, thing)"},
+    "beginnings": {"begun": "(row, *, house, n, by=None)"},
+    "answers": {
+        "answer": "(keeper, address, reason, *, clock)", "falling": "(keeper, reason)",
+        "placed": "(keeper, k, address)", "is_child": "(keeper, address)",
+    },
+    "shapes": {"sheet_of": "(house)", "shape_of": "(sheet, address)"},
+    "shapechecker": {"lets_shape": "(sheet, address, thing)"},
+    "spacing": {"spaced": "(ticks, *, within)", "breach_of": "(ticks, *, most, within)"},
+    "breachchecker": {"lets_breach": "(ticks, thing, *, most, within)"},
+    "rowleading": {"row_led": "(library, loaded, row)"},
+    "wires": {"things_on_way": "(land)"},
+    "fates": {"fates_of": "(log)", "losses_of": "(log)"},
+    "traces": {"trace_of": "(log, *, houses)"},
+    "thingtexts": {"shown_thing": "(thing)", "shown_steps": "(steps)"},
 }
 
 
