@@ -17,24 +17,24 @@ class Letters:
 
     def __init__(self):
         self.sent = []
-        self.fates = []
+        self.found = []
         self.waiting = {}
 
     def send(self, letter):
         """One more (from, to, letter)."""
         self.waiting.setdefault(letter, []).append(len(self.sent))
         self.sent.append(letter)
-        self.fates.append(None)
+        self.found.append(None)
 
     def end(self, letter, fate):
         """The first such letter that has no fate yet has this one; where there is none, nothing."""
         places = self.waiting.get(letter, [])
         if places:
-            self.fates[places.pop(0)] = fate
+            self.found[places.pop(0)] = fate
 
     def told(self):
         """(from, to, letter, fate) of each."""
-        return tuple([(*letter, fate) for letter, fate in zip(self.sent, self.fates)])
+        return tuple([(*letter, fate) for letter, fate in zip(self.sent, self.found)])
 
 
 def fates_of(log):

@@ -27,7 +27,8 @@ def _is_state(library, thing):
     return (name, len(values)) in [(behaviour[0], len(behaviour[1])) for behaviour in library[edition][0]]
 
 
-def _is_row(library, thing):
+def is_row(library, thing):
+    """Whether the thing is a row: a state, a plan, or None."""
     return thing is None or _is_state(library, thing) or is_plan(library, thing)
 
 
@@ -38,4 +39,4 @@ def is_plan(library, thing):
     word, way, most, within, rows = thing
     if word != "plan" or way not in WAYS or not is_count(most) or not is_above_nothing(within):
         return False
-    return isinstance(rows, tuple) and all([_is_row(library, row) for row in rows])
+    return isinstance(rows, tuple) and all([is_row(library, row) for row in rows])

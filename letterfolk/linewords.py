@@ -15,7 +15,8 @@ def is_figures(text):
     return text == "0" or text[0] != "0"
 
 
-def _number_of(word):
+def number_of(word):
+    """The number that the word writes, None where it writes none."""
     if is_figures(word):
         return int(word)
     if word.startswith("-") and word != "-0" and is_figures(word[1:]):
@@ -23,7 +24,8 @@ def _number_of(word):
     return None
 
 
-def _address_of(word):
+def address_of(word):
+    """The address that the word writes, None where it writes none."""
     house, _, n = word[1:].partition(".")
     if word.startswith("@") and is_figures(house) and is_figures(n):
         return ("at", int(house), int(n))
@@ -35,8 +37,8 @@ def value_of_word(word):
     if word.startswith("'") and is_word(word[1:]):
         return word[1:]
     if word.startswith("@"):
-        return _address_of(word)
-    return _number_of(word)
+        return address_of(word)
+    return number_of(word)
 
 
 class LineWords:

@@ -18,30 +18,40 @@ def _number_word(number):
     return "".join(pieces[::-1])
 
 
-def _words_of(things):
-    return [word for thing in things for word in _words(thing)]
-
-
-def _words(thing):
-    """The words that write the thing."""
+def _word(thing):
+    """The word that writes a thing that is no tuple, or an address."""
     if thing is None:
-        return ["-"]
+        return "-"
     if thing is True:
-        return ["+"]
+        return "+"
     if thing is False:
-        return ["/"]
+        return "/"
     if isinstance(thing, str):
-        return [thing]
-    if is_address(thing):
-        return [f"@{_number_word(thing[1])}.{_number_word(thing[2])}"]
+        return thing
     if isinstance(thing, tuple):
-        return ["(", *_words_of(thing), ")"]
-    return [_number_word(thing)]
+        return f"@{_number_word(thing[1])}.{_number_word(thing[2])}"
+    return _number_word(thing)
+
+
+def _words_of(things):
+    """The words that write the things, one behind the other; they wait on a pile, however deep they are."""
+    words = []
+    waiting = list(things)[::-1]
+    while waiting:
+        thing = waiting.pop()
+        if isinstance(thing, tuple) and not is_address(thing):
+            words.append("(")
+            # No plain thing is this bracket: it stands for itself behind what is in the tuple.
+            waiting.append(")")
+            waiting.extend(thing[::-1])
+        else:
+            words.append(_word(thing))
+    return words
 
 
 def shown_thing(thing):
     """The text that writes a plain thing."""
-    return " ".join(_words(thing))
+    return " ".join(_words_of((thing,)))
 
 
 def shown_steps(steps):

@@ -1,7 +1,7 @@
 """What is on the way between linked houses."""
 
 
-def _first_packets(wires):
+def first_packets(wires):
     """The thing of the first packet on the wires by its link, posts and number."""
     found = {}
     for link, sender, to, number, thing in wires:
@@ -10,7 +10,7 @@ def _first_packets(wires):
     return found
 
 
-def _things_of(row, link, packets):
+def things_of(row, link, packets):
     """The things of a row that went over the link and weren't given, by their numbers."""
     sender, to, sent, given, kept = row
     waiting = dict(kept)
@@ -26,10 +26,10 @@ def _things_of(row, link, packets):
 def things_on_way(land):
     """(from, to, things) of each two posts of linked houses between which something is on the way."""
     _, _, _, pairs, wires, _ = land
-    packets = _first_packets(wires)
+    packets = first_packets(wires)
     found = []
     for _, _, link, up, rows in pairs:
         if up:
             for row in rows:
-                found.append((row[0], row[1], _things_of(row, link, packets)))
+                found.append((row[0], row[1], things_of(row, link, packets)))
     return tuple(sorted([row for row in found if row[2]], key=lambda row: row[:2]))
