@@ -324,6 +324,15 @@ class Editions(Act):
         # The one behind what is found wasn't looked at.
         self.assertEqual(told_of(house, 2)[1], (0, (self.mail(9, 1),)))
 
+    def test_unseen_ones_ahead_of_one_that_stays(self):
+        # By the tree its mark is 0 behind it, by rows it is behind the one that stays.
+        other = (at(1), 2, ("none", ()))
+        house, events, _ = self.unseen(AWAY, mails=(other,))
+        self.assertEqual(events, (("lost", HERE, AWAY, ("add", (4,)), "unseen"),))
+        self.assertEqual(told_of(house, 2)[1], (1, (other,)))
+        house, _, _ = acted(self.library(), house_of({2: life(("tally", (3,), 2), mails=(self.mail(4, 1), other))}, loaded=(1, 2)), 2, by="tree")
+        self.assertEqual(told_of(house, 2)[1], (0, (other,)))
+
     def test_unseen_ones_ahead_of_being_late(self):
         late = read_code("be tally n\nlate 1\nsend @1.4 hi\ngo tally n")
         library = (*self.library()[:2], (late, VOID))
@@ -473,6 +482,12 @@ class Deeds(Act):
         self.assertEqual(told_of(house, 1)[2], (HERE,))
         # That one keeps others, so they are linked as any are.
         self.assertEqual(told_of(house, 3)[2], ())
+
+    def test_unlink_of_one_of_another_house_with_its_keepers_number(self):
+        folk = {2: doing(has=(at(1), at(1, 1))), 1: life(keeper(2), has=(HERE,))}
+        house, events, outs = self.do("unlink @1.1", folk=folk)
+        self.assertEqual((events, outs), ((WENT,), ((HERE, at(1, 1), ("unlink",)),)))
+        self.assertEqual((told_of(house, 2)[2], told_of(house, 1)[2]), ((at(1),), (HERE,)))
 
     def test_name(self):
         house, events, outs = self.do("name boss @", "name boss @0.3", "name red @0.3", folk={3: life(REST)}, words=(("boss", AWAY),))

@@ -62,10 +62,39 @@ FUNCTIONS = {
     "spacing": {"spaced": "(ticks, *, within)", "breach_of": "(ticks, *, most, within)"},
     "breachchecker": {"lets_breach": "(ticks, thing, *, most, within)"},
     "rowleading": {"row_led": "(library, loaded, row)"},
+    "ends": {"rooted": "(house, root)", "ended": "(house, number, reason, *, whose=None)"},
+    "acting": {
+        "ready": "(library, house, *, by='rows')", "acted": "(library, house, number, *, by='rows')",
+    },
+    "comings": {
+        "delivered": "(house, sender, to, thing)", "parted_from": "(house, other)",
+        "words_told": "(house, word, address, *, has=True)", "ticked": "(house)",
+    },
+    "houseloads": {"house_loaded": "(library, house, edition, *, root=None)"},
+    "lands": {"land_of": "(library, roots)"},
     "wires": {"things_on_way": "(land)"},
+    "landsteps": {"step": "(land, thing)", "ready_steps": "(land)"},
+    "landruns": {"run": "(land, steps, *, most=200)", "until_quiet": "(land, *, by=(), most=200)"},
+    "plainlands": {"plain_of": "(land)"},
+    "plainsteps": {"plain_step": "(plain, thing)"},
+    "plainpapers": {"plain_paper": "(land, steps)"},
+    "plainchecker": {"lets_plain": "(land, steps, thing)"},
     "fates": {"fates_of": "(log)", "losses_of": "(log)"},
     "traces": {"trace_of": "(log, *, houses)"},
+    "tracechecker": {"lets_trace": "(thing, *, library, roots)"},
+    "explaining": {"steps_for": "(trace, *, library, roots)"},
+    "stories": {"story_of": "(trace, address, *, library, roots)"},
     "thingtexts": {"shown_thing": "(thing)", "shown_steps": "(steps)"},
+    "thingreader": {"read_thing": "(text, *, line=0)", "read_steps": "(text)"},
+}
+
+CLASSES = {
+    ("village", "Village"): {
+        "__init__": "(self, library, *, roots)", "step": "(self, thing)", "run": "(self, steps, *, most=200)", "back": "(self, *, times=1)", "then": "(self, k)", "land": "(self)",
+        "steps": "(self)", "log": "(self)", "trace": "(self)", "paper": "(self)", "fates": "(self)", "losses": "(self)", "story": "(self, address)", "counts": "(self)",
+        "__len__": "(self)", "__str__": "(self)", "__eq__": "(self, other)",
+    },
+    ("desk", "Desk"): {"__init__": "(self)", "say": "(self, row)", "counts": "(self)"},
 }
 
 
@@ -84,6 +113,18 @@ class Interface(unittest.TestCase):
                 with self.subTest(file=file, name=name):
                     self.assertTrue(inspect.isfunction(getattr(module, name)))
                     self.assertEqual(getattr(module, name).__module__, f"letterfolk.{file}")
+
+    def test_methods_stand_in_the_classes_themselves(self):
+        for (file, name), methods in CLASSES.items():
+            kind = getattr(importlib.import_module(f"letterfolk.{file}"), name)
+            self.assertEqual(kind.__module__, f"letterfolk.{file}")
+            for method, arguments in methods.items():
+                with self.subTest(file=file, name=name, method=method):
+                    self.assertEqual(str(inspect.signature(vars(kind)[method])), arguments)
+
+    def test_the_limit(self):
+        landruns = importlib.import_module("letterfolk.landruns")
+        self.assertEqual((landruns.LIMIT, type(landruns.LIMIT)), (200, int))
 
     def test_nobody(self):
         sums = importlib.import_module("letterfolk.sums")

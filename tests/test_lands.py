@@ -181,6 +181,13 @@ class Packed(unittest.TestCase):
         mails = tuple([(None, None, (tag, (at(0, house), "parted"))) for tag, house in (("exit", 1), ("down", 1), ("down", 7))])
         self.assertEqual(life_at(land, 0, 0), life(IT, mails=mails, traps=True, since=1))
 
+    def test_each_thing_brings_its_own_alone(self):
+        # A letter, an unlink, or a signal that goes nowhere brings no down, though its sender watches that one then.
+        land, events = self.act("trap 1", "send @1.0 hit 1", "watch @1.1", "link @1.1", "unlink @1.0", "watch @1.0", "link @1.0", ahead=(("part", 0, 1),))
+        self.assertEqual(events[2:], (("lost", at(0, 1), at(0), ("hit", (1,)), "parted"),))
+        told = (("down", 1), ("exit", 1), ("down", 0), ("exit", 0))
+        self.assertEqual(life_at(land, 0, 0)[1][1], tuple([(None, None, (tag, (at(n, 1), "parted"))) for tag, n in told]))
+
     def test_a_link_of_one_who_has_ended(self):
         _, events = self.act("link @1.0", "watch @1.0", ahead=(("part", 0, 1),), last="end 'odd")
         self.assertEqual(events, (("ended", at(0), "odd", None),))

@@ -62,7 +62,7 @@ class Refused(unittest.TestCase):
         self.assertEqual(step(self.start, ("act", 1, 0))[1][0][0], "took")
 
     def test_packets(self):
-        for thing in (("come", 1), ("come", 10 ** 30), ("again", 1), ("again", 2)):
+        for thing in (("come", 1), ("come", 10 ** 30), ("again", 1), ("again", 2), ("again", 3), ("again", 10 ** 30)):
             self.refused(thing, "packet")
         land = first_land(doers(), DO, DO)
         for thing in (("come", 0), ("again", 0)):
@@ -339,9 +339,11 @@ class Parts(unittest.TestCase):
             (("boss", A), ("red", A)), (("boss", B), ("red", B)), (("boss", A), ("boss", B), ("red", A), ("red", B))])
 
     def test_a_meet_tells_own_words(self):
-        land = behind(start("name red @", "name boss @", roots=(DO, DO, DO)), ("act", 0, 0), ("tick", 1), ("act", 1, 0), ("part", 0, 1))
+        land = behind(start("name red @", "name boss @", roots=(DO, DO, DO)), ("act", 0, 0), ("tick", 1), ("act", 1, 0), ("tick", 2), ("act", 2, 0), ("part", 0, 1))
         while land[4]:
             land = behind(land, ("come", 0))
+        # What a house was told by the third one it doesn't tell.
+        self.assertEqual([len(house[5]) for house in land[2]], [4, 4, 6])
         for thing in (("meet", 0, 1), ("meet", 1, 0)):
             told, events = step(land, thing)
             packets = (
