@@ -93,7 +93,7 @@ def _make(home, address, deed):
     home.settle_in(other, state, address)
     home.made += 1
     if how == "linked":
-        home.join(address, other)
+        home.tie(address, other)
     if how == "watched":
         _watch(home, address, other)
 

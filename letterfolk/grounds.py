@@ -11,6 +11,11 @@ def _pair(a, b):
     return (min(a, b), max(a, b))
 
 
+def posts_between(rows, a, b):
+    """The posts, by pairs, of those rows that are between both houses, the lesser one a, either way, rising."""
+    return [(sender, to) for sender, to in sorted(rows) if _pair(sender[1], to[1]) == (a, b)]
+
+
 class Ground:
     """Houses, their roots and links; how things go between them a class below tells: by is "rows" or "tree"."""
 

@@ -68,7 +68,7 @@ class Home:
         self.events.append(("made", address, by, what))
         self.folk[address[2]] = Life((what, (0, ()), (), (), (), False, self.clock))
 
-    def join(self, one, other):
+    def tie(self, one, other):
         """Two of this house have one another."""
         for first, second in ((one, other), (other, one)):
             life = self.living(first)
@@ -80,7 +80,7 @@ class Home:
         for address, what, keeper in lives:
             self.settle_in(address, what, keeper)
             if keeper is not None:
-                self.join(address, keeper)
+                self.tie(address, keeper)
         self.made = behind
 
     def put_word(self, word, address):

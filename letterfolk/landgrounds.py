@@ -1,6 +1,6 @@
 """Lands, opened: things go as numbered packets over wires, which may bring them in any order, and twice."""
 
-from letterfolk.grounds import Ground
+from letterfolk.grounds import Ground, posts_between
 from letterfolk.wires import first_packets, things_of
 
 
@@ -43,8 +43,7 @@ class LandGround(Ground):
 
     def rows_between(self, a, b):
         """The rows of two houses, either way, rising."""
-        own = [posts for posts in sorted(self.rows) if sorted([posts[0][1], posts[1][1]]) == [a, b]]
-        return [self.rows[posts].told(*posts) for posts in own]
+        return [self.rows[posts].told(*posts) for posts in posts_between(self.rows, a, b)]
 
     def cut(self, a, b):
         """(from, to, things) that were on the way; the packets stay on the wires."""

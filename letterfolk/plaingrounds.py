@@ -1,6 +1,6 @@
 """Plain lands, opened: things stand in rows, in order, from one post to another."""
 
-from letterfolk.grounds import Ground
+from letterfolk.grounds import Ground, posts_between
 
 
 class PlainGround(Ground):
@@ -18,10 +18,10 @@ class PlainGround(Ground):
 
     def cut(self, a, b):
         """(from, to, things) of the rows of two houses, either way, rising; they are gone."""
-        found = []
-        for sender, to in sorted(self.rows):
-            if sorted([sender[1], to[1]]) == [a, b]:
-                found.append((sender, to, tuple(self.rows.pop((sender, to)))))
+        own = posts_between(self.rows, a, b)
+        found = [(*posts, tuple(self.rows[posts])) for posts in own]
+        for posts in own:
+            del self.rows[posts]
         return found
 
     def has_row(self, sender, to):

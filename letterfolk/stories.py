@@ -7,9 +7,8 @@ from letterfolk.lands import land_of
 
 def _events_of(trace, address, library, roots):
     """The events of the address's house, those of the beginning ahead."""
-    _, events = land_of(library, roots)
-    views = [events for _, events in trace[address[1]]]
-    return [*events, *[event for own in views for event in own]]
+    _, first = land_of(library, roots)
+    return [*first, *[event for _, events in trace[address[1]] for event in events]]
 
 
 def _states_of(own):
