@@ -137,16 +137,16 @@ def _unlink(home, address, to):
 
 def _do_deed(home, address, deed):
     """Do one deed of who acts at the address; what it hears of it behind its next is told."""
-    word = deed[0]
+    word, life = deed[0], home.living(address)
     if word == "send":
         home.events.append(("sent", address, deed[1], deed[2]))
-        _send(home, address, deed[1], address, home.living(address).what[2], deed[2])
+        _send(home, address, deed[1], address, life.what[2], deed[2])
     elif word == "tell":
         home.events.append(("told", address, deed[1]))
     elif word == "ask":
         home.events.append(("asked", address, deed[1], deed[2]))
     elif word == "trap":
-        home.living(address).traps = deed[1]
+        life.traps = deed[1]
     elif word == "make":
         _make(home, address, deed)
     elif word == "unlink":

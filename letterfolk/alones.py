@@ -28,19 +28,19 @@ class Alone:
 
     def do(self, given):
         """The events of an input, as they stand in a view; refused with NoStep where it can't be done."""
-        self.ground.events = []
-        word = given[0]
+        ground, word = self.ground, given[0]
+        ground.events = []
         if word == "given":
             self.take_packet(given[1])
-            return tuple(self.ground.events)
+            return tuple(ground.events)
         step = (word, self.h, *given[1:])
-        lets_step(self.ground, step)
+        lets_step(ground, step)
         if word not in ("part", "meet", "fall"):
-            do_step(self.ground, step)
-            return tuple(self.ground.events)
+            do_step(ground, step)
+            return tuple(ground.events)
         self.turn_links(given)
         # Letters lost on their way are in nobody's view.
-        return tuple([event for event in self.ground.events if event[0] != "lost" or event[4] != "parted"])
+        return tuple([event for event in ground.events if event[0] != "lost" or event[4] != "parted"])
 
     def take_packet(self, packet):
         """A packet is given here, the next one of its posts."""

@@ -54,7 +54,8 @@ def parted_from(house, other):
     home = Home(house)
     for life in list(home.folk.values()):
         life.known = tuple([address for address in life.known if address[1] != other])
-    for n in sorted(home.folk):
+    numbers = sorted(home.folk)
+    for n in numbers:
         life = home.folk.get(n)
         if life is not None:
             signals = [("signal", home.address_of(n), address, "parted") for address in _there(life.has, other)]

@@ -79,11 +79,13 @@ class LandGround(Ground):
         link, sender, to, number, thing = packet
         word = self.word_of(packet)
         self.events.append(("came", packet, word))
+        if word == "elder":
+            return
+        row = self.row_of(sender, to)
         if word == "kept":
-            self.row_of(sender, to).kept[number] = thing
+            row.kept[number] = thing
         if word == "taken":
             self.give_next(link, sender, to, thing)
-            row = self.row_of(sender, to)
             while row.given in row.kept:
                 self.give_next(link, sender, to, row.kept.pop(row.given))
 
